@@ -1,0 +1,1 @@
+"""Forkstamp: stamps of deeds, for hands that fork and join."""
