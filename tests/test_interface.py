@@ -3,7 +3,7 @@ import pathlib
 import unittest
 
 import forkstamp
-from forkstamp import owns, tolds
+from forkstamp import deeds, hands, owns, packing, stamps, tolds
 
 INTERFACE = {
     owns: {
@@ -23,6 +23,36 @@ INTERFACE = {
         "at_most": ["one", "other"],
         "joined": ["one", "other"],
     },
+    deeds: {
+        "filled": ["own", "told"],
+        "grown": ["own", "told"],
+        "raised": ["own", "told"],
+    },
+    packing: {
+        "packed": ["stamp"],
+        "unpacked": ["row"],
+    },
+}
+
+CLASSES = {
+    stamps.Stamp: (stamps, {
+        "__init__": ["self", "own", "told"],
+        "fork": ["self"],
+        "joined": ["self", "other"],
+        "deed": ["self"],
+        "learnt": ["self", "other"],
+        "is_at_most": ["self", "other"],
+    }),
+    hands.Hands: (hands, {
+        "__init__": ["self"],
+        "fork": ["self", "hand"],
+        "deed": ["self", "hand"],
+        "join": ["self", "hand", "other"],
+        "tell": ["self", "hand", "other"],
+        "stamp": ["self", "hand"],
+        "hands": ["self"],
+        "compared": ["self", "hand", "other"],
+    }),
 }
 
 
@@ -34,6 +64,19 @@ class InterfaceTest(unittest.TestCase):
                     function = getattr(module, name)
                     self.assertEqual(function.__module__, module.__name__)
                     self.assertEqual(list(inspect.signature(function).parameters), arguments)
+
+    def test_each_class_stands_in_its_file_with_its_own_methods(self):
+        for made, (module, methods) in CLASSES.items():
+            self.assertEqual(made.__module__, module.__name__)
+            for name, arguments in methods.items():
+                with self.subTest(name=name):
+                    self.assertIn(name, vars(made))
+                    self.assertEqual(list(inspect.signature(vars(made)[name]).parameters), arguments)
+
+    def test_a_stamp_has_its_defaults_and_its_fields(self):
+        given = inspect.signature(stamps.Stamp).parameters
+        self.assertEqual((given["own"].default, given["told"].default), (1, 0))
+        self.assertEqual(vars(stamps.Stamp()), {"own": 1, "told": 0})
 
     def test_the_package_folder_holds_its_files_and_nothing_else(self):
         folder = pathlib.Path(forkstamp.__file__).parent
